@@ -1,0 +1,1 @@
+"""Mistakesigns: signs that may be mistaken."""

@@ -1,0 +1,79 @@
+"""Words of signs, and codes: words that are surely told apart."""
+
+from mistakesigns.tables import all_pairs, mixed
+
+
+def count_words(many, long):
+    """How many words so long there are of so many signs."""
+    count = 1
+    for place in range(long):
+        count *= many
+    return count
+
+
+def word_at(many, long, number):
+    """The word at a place among all words so long, as they rise."""
+    signs = []
+    for place in range(long):
+        signs.append(number % many)
+        number = number // many
+    return tuple(signs[::-1])
+
+
+def words(many, long):
+    """All words so long of so many signs, rising."""
+    return tuple([word_at(many, long, number) for number in range(count_words(many, long))])
+
+
+def mixed_words(table, one, other):
+    """Whether two words are the same, or may be mistaken."""
+    return all(mixed(table, sign, against) for sign, against in zip(one, other))
+
+
+def mixed_places(table, some):
+    """All pairs of places of words that are the same or may be mistaken, rising, one by one."""
+    for one, other in all_pairs(len(some)):
+        if mixed_words(table, some[one], some[other]):
+            yield (one, other)
+
+
+def power(table, long):
+    """The table of all words so long, numbered as they rise."""
+    every = words(table[0], long)
+    return len(every), tuple(mixed_places(table, every))
+
+
+def clash(table, some):
+    """The least pair of places of words that are the same or may be mistaken; None."""
+    for pair in mixed_places(table, some):
+        return pair
+    return None
+
+
+def is_code(table, some):
+    """Whether each two of the words are surely told apart."""
+    return clash(table, some) is None
+
+
+def is_told_from(table, some, word):
+    """Whether a word is surely told from each of some words."""
+    return not any(mixed_words(table, word, other) for other in some)
+
+
+def addable(table, some, long):
+    """All words so long that are surely told from each of a code, rising."""
+    return tuple([word for word in words(table[0], long) if is_told_from(table, some, word)])
+
+
+def is_full(table, some, long):
+    """Whether no word so long is surely told from each of a code."""
+    return addable(table, some, long) == ()
+
+
+def grown(table, some, long):
+    """A code with each word more, from the least on, that is surely told from all it then has."""
+    code = list(some)
+    for word in words(table[0], long):
+        if is_told_from(table, code, word):
+            code.append(word)
+    return tuple(code)
