@@ -1,4 +1,4 @@
-"""The rules of ../shared/LANGUAGE.md that can be read off the package's code without running it."""
+"""Some of the rules of ../shared/LANGUAGE.md, as far as they are easily read off the code; not all of them."""
 
 import ast
 import builtins
