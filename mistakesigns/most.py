@@ -102,14 +102,20 @@ def with_greater(table, signs):
     return [(*signs, sign) for sign in greater]
 
 
+def all_apart(table):
+    """All rising tuples of signs that may not be mistaken, those of fewer signs first."""
+    every = []
+    longer = [()]
+    while longer:
+        every.extend(longer)
+        longer = [more for signs in longer for more in with_greater(table, signs)]
+    return every
+
+
 def all_best(table):
     """All rising tuples of signs that may not be mistaken, with as many as can be; rising."""
-    found = [()]
-    longer = with_greater(table, ())
-    while longer:
-        found = longer
-        longer = [more for signs in found for more in with_greater(table, signs)]
-    return tuple(found)
+    every = all_apart(table)
+    return tuple([signs for signs in every if len(signs) == len(every[-1])])
 
 
 def needed(table):

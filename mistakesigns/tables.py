@@ -9,17 +9,22 @@ def is_whole(thing):
     return isinstance(thing, int) and not isinstance(thing, bool)
 
 
+def is_sign(thing, many):
+    """Whether a thing is one of so many signs."""
+    return is_whole(thing) and 0 <= thing < many
+
+
 def is_pair(thing, many):
     """Whether a thing is a pair of two of so many signs, the lesser first."""
     if not isinstance(thing, tuple) or len(thing) != 2:
         return False
     one, other = thing
-    return is_whole(one) and is_whole(other) and 0 <= one < other < many
+    return is_sign(one, many) and is_sign(other, many) and one < other
 
 
 def is_letter(thing):
     """Whether a thing is a letter of a channel."""
-    return is_whole(thing) and 0 <= thing < MOST_LETTERS
+    return is_sign(thing, MOST_LETTERS)
 
 
 def rises(row):

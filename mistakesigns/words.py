@@ -11,18 +11,17 @@ def count_words(many, long):
     return count
 
 
-def word_at(many, long, number):
-    """The word at a place among all words so long, as they rise."""
-    signs = []
-    for place in range(long):
-        signs.append(number % many)
-        number = number // many
-    return tuple(signs[::-1])
+def one_of_each(choices):
+    """All tuples with one of each of some rising tuples, rising."""
+    found = [()]
+    for choice in choices:
+        found = [(*before, taken) for before in found for taken in choice]
+    return tuple(found)
 
 
 def words(many, long):
     """All words so long of so many signs, rising."""
-    return tuple([word_at(many, long, number) for number in range(count_words(many, long))])
+    return one_of_each([tuple(range(many))] * long)
 
 
 def mixed_words(table, one, other):

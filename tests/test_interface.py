@@ -4,9 +4,10 @@ import copy
 import unittest
 
 import helpers
-from mistakesigns import errors, most, tables, words
+from mistakesigns import covers, errors, hearing, kinds, most, tables, texts, words
 
 RING5 = helpers.RING5
+PATH3 = helpers.PATH3
 CHANNEL = ((0, 1), (1, 2), (3,))
 CODE = ((0, 0), (1, 2))
 
@@ -39,6 +40,44 @@ ASKED = (
     (most.best_code, (RING5, 2), tuple),
     (most.all_best, (RING5,), tuple),
     (most.needed, (RING5,), tuple),
+    (covers.groups, (RING5,), tuple),
+    (covers.least_cover, (RING5,), tuple),
+    (covers.fewest, (RING5,), int),
+    (covers.cover_words, (RING5, 2), tuple),
+    (covers.least_shares, (RING5, 2), int),
+    (covers.is_tight, (RING5,), bool),
+    (covers.is_cover, (PATH3, 1, (((0,), (1,)), ((2,),))), bool),
+    (covers.is_cover, (PATH3, 1, [[[0], [1]], [[2]]]), bool),
+    (covers.is_shares, (PATH3, 1, (((0, 1), 1), ((2,), 1))), bool),
+    (covers.is_shares, (PATH3, 1, [[[0, 1], 1], [[2], 1]]), bool),
+    (kinds.form, (RING5,), tuple),
+    (kinds.renaming, (RING5, tables.turned(RING5)), tuple),
+    (kinds.renaming, (RING5, PATH3), type(None)),
+    (kinds.turns, (RING5,), int),
+    (kinds.all_kinds, (4,), tuple),
+    (kinds.beside, (RING5, PATH3), tuple),
+    (kinds.times, (RING5, PATH3), tuple),
+    (kinds.alike, (RING5, tables.turned(RING5)), bool),
+    (kinds.alike, (RING5, PATH3), bool),
+    (hearing.sent, (CHANNEL, CODE, (1, 1)), tuple),
+    (hearing.told, (CHANNEL, CODE, (0, 1)), tuple),
+    (hearing.heard_all, (CHANNEL, (1, 0, 2)), tuple),
+    (hearing.most_heard, (CHANNEL, CODE), int),
+    (hearing.most_heard, (CHANNEL, ()), int),
+    (hearing.listed, (CHANNEL, 2), int),
+    (hearing.is_sure, (CHANNEL, CODE), bool),
+    (hearing.is_sure, (CHANNEL, ()), bool),
+    (texts.written, (RING5,), str),
+    (texts.read, ("5:01,04,12,23,34",), tuple),
+    (texts.read, ("3:",), tuple),
+)
+
+# What is refused, and by which refusal.
+REFUSED = (
+    (hearing.told, (CHANNEL, CODE, (5, 5)), errors.NoSign),
+    (hearing.told, (CHANNEL, ((0,), (1,)), (1,)), errors.NoSign),
+    (texts.read, ("3:10",), errors.NoText),
+    (texts.read, ("",), errors.NoText),
 )
 
 NAMES = {
@@ -46,6 +85,10 @@ NAMES = {
     tables: "is_table is_channel mixed near turned part renamed table_of channel_of",
     words: "words power clash addable grown mixed_words is_code is_full",
     most: "most best_code all_best needed",
+    covers: "groups least_cover fewest cover_words least_shares is_tight is_cover is_shares",
+    kinds: "form renaming turns all_kinds beside times alike",
+    hearing: "sent told heard_all most_heard listed is_sure",
+    texts: "written read",
 }
 
 
@@ -74,6 +117,12 @@ class Interface(unittest.TestCase):
             first = repr(function(*given))
             self.assertEqual(repr(function(*given)), first)
             self.assertEqual(repr(given), repr(kept))
+
+    def test_refused_each_time(self):
+        for function, given, refusal in REFUSED + REFUSED[::-1]:
+            with self.assertRaises(errors.MistakeError) as caught:
+                function(*given)
+            self.assertIs(type(caught.exception), refusal)
 
 
 if __name__ == "__main__":

@@ -11,29 +11,6 @@ from mistakesigns.tables import is_channel, is_table
 TABLES = {repr(table) for table in helpers.small_tables(6)}
 ROWS = {repr(row) for size in range(1, 7) for row in itertools.combinations(range(6), size)}
 
-ODD = (
-    None, True, False, -1, 0, 1, 2, 3, 5, 6, 7, 10 ** 30, "", "0", "01", "ab", (), [], (0,), [0], (0, 1), [0, 1],
-    (1, 0), (0, 0), (1, 1), (0, 1, 2), (True, 2), (False, 1), (0, True), (0, "1"), ("0", 1), (None, 1), (0, None),
-    ((0, 1),), [(0, 1)], ([0, 1],), ((0, 1), (0, 1)), ((0, 2), (0, 1)), ((((0,),),),), [[[[[0]]]]], (-1, 0),
-)
-
-
-def changes(thing):
-    """The thing with one spot of it, at any depth, made something else."""
-    yield from ODD
-    if type(thing) is tuple:
-        yield list(thing)
-        yield thing[::-1]
-        yield thing + thing[-1:]
-        yield thing[:-1]
-        for at, item in enumerate(thing):
-            for other in changes(item):
-                yield thing[:at] + (other,) + thing[at + 1:]
-    if type(thing) is int:
-        yield thing - 1
-        yield thing + 1
-        yield str(thing)
-
 
 def is_channel_by_repr(thing):
     return type(thing) is tuple and 1 <= len(thing) <= 6 and all(repr(row) in ROWS for row in thing)
@@ -47,7 +24,7 @@ class IsTable(unittest.TestCase):
     def test_things_near_tables(self):
         seen = [0, 0]
         for table in itertools.chain(helpers.small_tables(3), helpers.some_tables(5, 40), [helpers.RING6]):
-            for thing in changes(table):
+            for thing in helpers.changes(table):
                 due = repr(thing) in TABLES
                 seen[due] += 1
                 self.assertIs(is_table(thing), due, thing)
@@ -105,7 +82,7 @@ class IsChannel(unittest.TestCase):
     def test_things_near_channels(self):
         seen = [0, 0]
         for channel in (((0,),), ((5,),), ((0, 1), (1, 2)), ((1, 2, 5), (0,), (3, 4)), ((0, 1, 2, 3, 4, 5),) * 6):
-            for thing in changes(channel):
+            for thing in helpers.changes(channel):
                 due = is_channel_by_repr(thing)
                 seen[due] += 1
                 self.assertIs(is_channel(thing), due, thing)

@@ -116,6 +116,13 @@ class Language(unittest.TestCase):
                     self.assertRegex(name, r"^([A-Za-z][A-Za-z0-9_]*|__[a-z]+__)$", path.name)
                     self.assertNotIn(name, BARRED_NAMES | imported | set(dir(builtins)), path.name)
 
+    def test_nothing_stored_that_is_iterated_once(self):
+        for where, node in self.each_node():
+            if isinstance(node, (ast.Assign, ast.Return)) and isinstance(node.value, ast.Call):
+                called = node.value.func
+                name = called.id if isinstance(called, ast.Name) else getattr(called, "attr", "")
+                self.assertNotIn(name, ("zip", "enumerate", "reversed", "range", "items", "keys", "values"), where)
+
     def test_builtins_and_methods(self):
         for where, node in self.each_node():
             if isinstance(node, ast.Name) and node.id in dir(builtins):
